@@ -6,13 +6,13 @@ from landedback.statements import inner_bodies, is_form
 class Spot:
     """One address of a function; it is never changed.
 
-    statement is what stands there, None at the end of the function; behind is the address to
+    item is what stands there, None at the end of the function; behind is the address to
     which the statement leads once it is done; doors has an address for each of its bodies, the
     one to which a step into that body leads.
     """
 
-    def __init__(self, statement, behind, doors):
-        self.statement = statement
+    def __init__(self, item, behind, doors):
+        self.item = item
         self.behind = behind
         self.doors = doors
 

@@ -4,17 +4,34 @@ import doctest
 import unittest
 
 ROWS = '''
+>>> from landedback.places import after, all_places, entered, ways
 >>> from landedback.programs import Program
 >>> from landedback.statements import cells_in, made, read
 >>> tidy = [("free", "p"), ("clear", "p")]
 >>> body = [("clear", "p"), ("mark", "m", [], tidy), ("get", "p"), ("either", [[("jump", "m")], []])] + tidy
 >>> plan = Program({"main": ([], body, "p")})
->>> [plan.names("main"), plan.cells()]
-[['p'], ['m']]
->>> [made(("take", "p", "q")), read(body[1])]
-['p', []]
+>>> [plan.names("main"), plan.cells(), len(all_places(plan))]
+[['p'], ['m'], 10]
+>>> [ways(plan, ("main", (1,))), ways(plan, ("main", (3,))), ways(plan, ("main", (3, 0, 0)))]
+[[('main', (2,))], [('main', (3, 0, 0)), ('main', (4,))], []]
+>>> [after(plan, ("main", (1, 1, 1))), entered(plan, ("main", (1,)), 1), made(("take", "p", "q")), read(body[1])]
+[('main', (2,)), ('main', (1, 1, 0)), 'p', []]
 >>> [cells_in(body[3]), plan.with_kept([("main", "p")]).loose_names("main")]
 [['m'], []]
+>>> from landedback.machine import Machine
+>>> from landedback.placings import Placing, placed
+>>> from landedback.runs import faults_of
+>>> machine = Machine(plan)
+>>> [machine.step(data) for data in [("go",), ("go",), ("go",), ("body", 0)]]
+[[], [], [], []]
+>>> [machine.wanted(), machine["p"], machine.cells()]
+[[('jump', ()), ('jump', ('p',))], 0, {'m': (0, (1,), {'p': None})}]
+>>> found = machine.trial(lambda tried: [tried.step(("jump", ("p",))), tried.here(), tried["p"]])
+>>> [found, machine.here(), machine["p"]]
+[[[('lost', 'main', (1,), 0)], ('main', (1, 1, 0)), None], ('main', (3, 0, 0)), 0]
+>>> choices = machine.run() + [("jump", ())]
+>>> [faults_of(plan, choices), placed(plan, choices, Placing.everything()).faults()]
+[[], [(4, 'lost', 'main', (1,), 0)]]
 '''
 
 
@@ -25,7 +42,7 @@ class Example(unittest.TestCase):
         told = []
         result = doctest.DocTestRunner(verbose=False).run(rows, out=told.append)
         self.assertEqual(result.failed, 0, "".join(told))
-        self.assertGreater(result.attempted, 7)
+        self.assertEqual(result.attempted, 20)
 
 
 if __name__ == "__main__":

@@ -5,6 +5,7 @@ This is a net with wide meshes: it finds slips, it does not prove that a file ke
 
 import ast
 import builtins
+import functools
 import os
 import re
 import unittest
@@ -56,6 +57,7 @@ def text_of(name):
         return file.read()
 
 
+@functools.lru_cache
 def trees():
     return {name[:-3]: ast.parse(text_of(name).decode("ascii")) for name in files() if name.endswith(".py")}
 

@@ -297,6 +297,9 @@ class Methods(unittest.TestCase):
         self.assertEqual(Program(functions).reached(), ["a", "b", "main"])
         functions["b"] = ([], [], "p")
         self.assertEqual(Program(functions).reached(), ["b", "main"])
+        functions["b"] = ([], call["b"] * 2 + call["a"], "p")
+        self.assertEqual(Program(functions).calls("b"), ["a", "b"])
+        functions["b"] = ([], [], "p")
         functions["zz"] = functions.pop("a")
         self.assertEqual(Program(functions).reached(), ["b", "main"])
 
