@@ -98,6 +98,14 @@ class Program:
         """The Program with another list of what is shut."""
         return Program(self._functions, kept=self._kept, shut=shut)
 
+    def has_function(self, thing):
+        """Whether thing, any value, is the name of a function."""
+        return is_name(thing) and thing in self._functions
+
+    def has_address(self, function, address):
+        """Whether an address stands in a function."""
+        return address in self._spots[function]
+
     def addresses(self, function):
         """The ascending list of the addresses in a function, its end included."""
         return list(self._spots[function])

@@ -32,6 +32,16 @@ ROWS = '''
 >>> choices = machine.run() + [("jump", ())]
 >>> [faults_of(plan, choices), placed(plan, choices, Placing.everything()).faults()]
 [[], [(4, 'lost', 'main', (1,), 0)]]
+>>> from landedback.followed import row_of
+>>> from landedback.steps import faulty, followers
+>>> row = row_of(plan, machine.run(), 0)
+>>> row[2:]
+((3, 0, 0), ('live', ('p',), (('mine', (1,), ()),), ''))
+>>> [faulty(plan, row), [one[2:] for one in followers(plan, row)]]
+[[('lost', (1,))], [((1, 1, 0), ('live', ('p',), (('mine', (1,), ()),), ''))]]
+>>> from landedback.tables import Table
+>>> [Table(plan).faults(), Table(plan, plain=True).faults()]
+[[('lost', 'main', (1,))], []]
 '''
 
 
@@ -42,7 +52,7 @@ class Example(unittest.TestCase):
         told = []
         result = doctest.DocTestRunner(verbose=False).run(rows, out=told.append)
         self.assertEqual(result.failed, 0, "".join(told))
-        self.assertEqual(result.attempted, 20)
+        self.assertEqual(result.attempted, 27)
 
 
 if __name__ == "__main__":
