@@ -11,7 +11,7 @@ from landedback.steps import behind, called, ending, faulty, followers, leaving,
 from landedback.tables import Table
 from tests.reference import ARMED, CHAIN, DEEP, PLAN, STALE, programs
 from tests.shapes import chance_entry, chance_outcome, chance_row, rich_program
-from tests.test_tables import KINDS, OTHERS, ends, swapped
+from tests.test_tables import KINDS, MIXED, OTHERS, ends, swapped
 
 # All things are freed; f is called in two ways, passes on a jump of g, and is jumped out of.
 SAFE = {
@@ -19,9 +19,6 @@ SAFE = {
     "f": (["a"], [("get", "b"), ("either", [[("free", "b"), ("clear", "b"), ("call", "c", "g", ())], []]), ("mark", "n", [], [])], "b"),
     "g": ([], [("either", [[("jump", "m")], []])], "x"),
 }
-
-MIXED = [None, True, False, 0, 1, "", "rows", b"", (), {}, set(), object(), Table, {"main": 1}, ((),)]
-
 
 def lists(table):
     return table.rows(), ends(table)
@@ -270,15 +267,29 @@ class Forms(unittest.TestCase):
         self.assertIs(self.holds([self.row(told=outer, entry=("live", (), True, outer, ""))], []), True)
         self.assertIs(self.holds([self.row(told=outer)], []), False)
 
+    def test_wrong_rows_that_lead_nowhere(self):
+        """At the end of main nothing hangs on what they lead to."""
+        entries = {h: (h, (), False, self.none, "") for h in ("new", "live", "gone", "nothing", "old")}
+        fine = {("new", "new", ()), ("new", "gone", ()), ("new", "gone", ("p",)), ("live", "gone", ()), ("live", "gone", ("p",)),
+                ("gone", "gone", ()), ("gone", "gone", ("p",)), ("nothing", "nothing", ()), ("nothing", "nothing", ("p",))}
+        for first, entry in entries.items():
+            for h in ("new", "live", "gone", "nothing", "old"):
+                for names in ((), ("p",)):
+                    row = ("main", entry, (4,), (h, names, self.none, ""))
+                    self.assertIs(self.holds([row], []), (first, h, names) in fine, row)
+
     def test_marks_in_rows(self):
         new = ("new", (), False, self.told, "")
         for item in (("mine", (1,), ()), ("mine", (3,), ()), ("mine", (4,), ()), ("mine", (0,), ("y",)), ("mine", (0,)),
                      ("mine", (0,), ("x", "x")), ("mine", (0,), ["x"]), ("mine", [0], ()), ("mine", 0, ()), ("mine", (0,), "x"),
-                     ("mine", (0,), (), ()), ("mine",), ("mine", (0,), None), ("mine", (0,), ("z",)), ["mine", (0,), ()]):
+                     ("mine", (0,), (), ()), ("mine",), ("mine", (0,), None), ("yours", (0,), ()), ("mine", (0,), ("z",)), ["mine", (0,), ()]):
             self.assertIs(self.holds([self.row(told=(item,) + self.none[1:])], []), False, item)
         for item in (("mine", (0,), ()), ("mine", (2,), ()), ("mine", (0,), ("x",))):
             self.assertIs(self.holds([self.row(told=(item,) + self.none[1:])], []), True)
         self.assertIs(self.holds([self.row(told=(("mine", (0,), ()),) * 3, h="new", names=(), entry=new)], []), True)
+        for item, expected in ((("mine", (0,), ("q",)), True), (("yours", (0,), ("q",)), False), (("mine", (0,), ("x",)), False)):
+            state = ("gone", (), (item,) * 3, "")
+            self.assertIs(self.holds([("main", ("gone", (), False, self.none, ""), (4,), state)], []), expected)
         self.assertIs(self.holds([self.row(told=(("mine", (0,), ("x",)),) * 3, h="new", names=(), entry=new)], []), False)
 
     def test_entries(self):
@@ -294,7 +305,11 @@ class Forms(unittest.TestCase):
                       ("live", (), True, (("ended",), ("ended",), ("outer", 0)), ""),
                       ("live", (), True, (("mine", (0,), ()), ("ended",), ("ended",)), ""),
                       ("live", (), True, (("outer", 0), ("outer", 0), ("outer", 1)), ""),
-                      ("new", (0,), False, self.none, ""), ("new", (), True, self.none, ""),
+                      ("live", (), True, (("outer", 0, 0), ("ended",), ("ended",)), ""),
+                      ("live", (), True, (("outer", 0), ("outer", 0, 0), ("ended",)), ""),
+                      ("live", (), True, (("ended", 0), ("ended",), ("ended",)), ""),
+                      ("live", (), True, (("other",), ("ended",), ("ended",)), ""),
+                      ("old", (), False, self.none, ""), ("new", (0,), False, self.none, ""), ("new", (), True, self.none, ""),
                       ("nothing", (), True, self.none, ""), (["live"], (), True, self.none, "")):
             for h, names in (("live", ("x",)), ("new", ()), ("nothing", ())):
                 row = self.row(h=h, names=names, told=self.none, entry=entry)
@@ -342,6 +357,7 @@ class Forms(unittest.TestCase):
                     ("f", new, ("end", "new", True, self.none, "")), ("f", entry, ("jump", 2, "live", self.none)),
                     ("f", entry, ("jump", 1, "live", self.none)), ("f", entry, ("jump", -3, "live", self.none)),
                     ("f", entry, ("jump", "0", "live", self.none)), ("f", entry, ("jump", 0, "new", self.none)),
+                    ("f", entry, ("go", 0, "live", self.none)), ("f", entry, (["jump"], 0, "live", self.none)),
                     ("f", entry, ("jump", 0, "live", mine)), ("f", entry, ("jump", 0, "live", self.none, "")),
                     ("f", entry, ("jump", 3, "live", self.none)), ("f", entry, ["end", "live", True, self.none, ""]),
                     ["f", entry, ("end", "live", True, self.none, "")], ("f", entry, ("go", "live", True, self.none, "")),

@@ -39,9 +39,18 @@ ROWS = '''
 ((3, 0, 0), ('live', ('p',), (('mine', (1,), ()),), ''))
 >>> [faulty(plan, row), [one[2:] for one in followers(plan, row)]]
 [[('lost', (1,))], [((1, 1, 0), ('live', ('p',), (('mine', (1,), ()),), ''))]]
+>>> from landedback.faultruns import fault_run, fewest
 >>> from landedback.tables import Table
 >>> [Table(plan).faults(), Table(plan, plain=True).faults()]
 [[('lost', 'main', (1,))], []]
+>>> [fewest(plan), fault_run(plan)]
+[5, [('go',), ('go',), ('go',), ('body', 0), ('jump', ('p',))]]
+>>> from landedback.plainruns import changed, empty_uses
+>>> from landedback.steady import must_keep, safe_with
+>>> [must_keep(plan), changed(plan), safe_with(plan, []), safe_with(plan, [("main", "p")])]
+[[('main', 'p')], [('main', 'p')], False, True]
+>>> empty_uses(plan)
+[]
 '''
 
 
@@ -52,7 +61,7 @@ class Example(unittest.TestCase):
         told = []
         result = doctest.DocTestRunner(verbose=False).run(rows, out=told.append)
         self.assertEqual(result.failed, 0, "".join(told))
-        self.assertEqual(result.attempted, 27)
+        self.assertEqual(result.attempted, 33)
 
 
 if __name__ == "__main__":

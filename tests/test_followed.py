@@ -104,6 +104,14 @@ class Rows(unittest.TestCase):
         told = row_of(program, machine.run(), 1)[3][2]
         self.assertEqual(told, (("mine", (0, 0, 0), ()), ("mine", (0, 0, 0), ())))
 
+    def test_what_waiting_calls_hold(self):
+        program = Program({"main": ([], [("get", "p"), ("free", "p"), ("call", "q", "f", ("q",)), ("clear", "p"),
+                                         ("call", "q", "f", ("q",))], "p"), "f": (["a"], [], "a")})
+        rows = rows_of(program, [GO] * 6, 0)
+        self.assertEqual([row[1][:3] for row in rows if row[0] == "f"], [("gone", (), True), ("gone", (), False)])
+        self.assertEqual([row[1][2] for row in rows_of(program, [GO] * 6, None) if row[0] == "f"], [False, False])
+        self.assertEqual([row[1][2] for row in rows_of(program, [GO] * 6, 1) if row[0] == "f"], [False, False])
+
     def test_up_to_a_fault_of_the_thing(self):
         program = Program({"main": ([], [("get", "p"), ("get", "q"), ("free", "q"), ("use", "q"), ("clear", "p")], "p")})
         run = [GO] * 6

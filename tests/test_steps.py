@@ -469,6 +469,19 @@ class Lists(unittest.TestCase):
             query(program, where).append(None)
             self.assertEqual(query(program, where), told)
 
+    def test_not_plain_where_it_is_not_said(self):
+        where = row(("live", ("p",), (("mine", (1,), ("q",)), ("ended",)), ""))
+        program = one(("jump", "m"))
+        self.assertEqual([found[3][1] for found in followers(program, where)], [("p",), ("p", "q"), ("q",)])
+        self.assertEqual(faulty(program, where), [("lost", (1,))])
+        where = row(("live", ("p",), (("mine", (1,), ()), ("ended",)), ""))
+        program, outcome = one(("call", "p", "f", ())), ("jump", 0, "live", (("outer", 0), ("ended",)))
+        self.assertEqual([found[3][1] for found in behind(program, where, outcome)], [("p",)])
+        self.assertEqual(lost_behind(program, where, outcome), [("lost", (1,))])
+        where = row(("gone", ("p",), (("mine", (1,), ()), ("ended",)), ""))
+        outcome = ("jump", 0, "gone", (("outer", 0), ("ended",)))
+        self.assertEqual([found[3][1] for found in behind(program, where, outcome)], [(), ("p",)])
+
     def test_plain_is_passed_by_keyword(self):
         self.assertRaises(TypeError, lambda: followers(one(("rest",)), row(("new", (), NONE, "")), True))
         self.assertRaises(TypeError, lambda: faulty(one(("rest",)), row(("new", (), NONE, "")), True))

@@ -18,6 +18,9 @@ KINDS = [(plain, nothing) for plain in (False, True) for nothing in (False, True
 OTHERS = [None, True, False, 0, 1, "", "main", b"main", [], (), {}, set(), object(), Table, ((),) * 4, ("main",) * 4,
           ("main", (), (0,), ()), ("main", None, None, None), [("main",)], ({}, [], set(), {}), (("main",), (), (0,), ())]
 
+# Values that are neither lists of rows nor runs with a fault.
+MIXED = [None, True, False, 0, 1, "", "rows", b"", (), {}, set(), object(), Table, {"main": 1}, ((),)]
+
 
 def main(body, result="p", **others):
     return Program({"main": ([], body, result), **others})
@@ -205,6 +208,13 @@ class Many(unittest.TestCase):
     def test_one_row_is_never_enough(self):
         self.assertEqual(len(Table(main([]), most=1)), 1)
         self.assertRaises(TooMany, lambda: Table(main([("rest",)]), most=1))
+
+    def test_just_a_thousand(self):
+        """One row for each place."""
+        self.assertEqual(len(Table(main([("rest",)] * 999))), 1000)
+        with self.assertRaises(TooMany) as held:
+            Table(main([("rest",)] * 1000))
+        self.assertEqual(held.exception.limit, 1000)
 
     def test_a_thousand_is_what_there_may_be_at_first(self):
         bodies = [[("mark", "m", [], [])], [("mark", "n", [], [])], [("get", "a")], [("take", "b", "a")], [("free", "b")]]
