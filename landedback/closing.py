@@ -1,10 +1,9 @@
 """Closing: whether lists of rows and outcomes are closed, and lead to no fault."""
 
 from landedback.forms import is_end_of, is_row_of
-from landedback.moves import item_at, leaves, moves
-from landedback.returns import returns
+from landedback.moves import moves_and_leaves
+from landedback.returns import called_at, passed_on, returns
 from landedback.rows import begin_entry, begin_row
-from landedback.steps import called, passing
 
 
 def is_closed(program, rows, outcomes, *, plain=False, nothing=False):
@@ -31,14 +30,13 @@ def _outcomes_by_pair(ends):
 
 def _is_row_closed(program, row, stand, ends, following, plain):
     """Whether all to which a row leads stands there, and no fault."""
-    if not _are_there(moves(program, row, plain), stand):
+    spot = program.spot_at(row[0], row[2])
+    stays, goes = moves_and_leaves(program, row, spot, plain)
+    if not _are_there(stays, stand) or not all([row[:2] + (outcome,) in ends for _, outcome in goes]):
         return False
-    if not all([row[:2] + (outcome,) in ends for _, outcome in leaves(program, row)]):
-        return False
-    item = item_at(program, row)
-    if item is None or item[0] != "call":
+    if spot.word != "call":
         return True
-    pair = called(program, row)
+    pair = called_at(program, row)
     if begin_row(program, pair[0], pair[1]) not in stand:
         return False
     return all([_is_outcome_closed(program, row, outcome, stand, ends, plain) for outcome in following.get(pair, [])])
@@ -46,7 +44,7 @@ def _is_row_closed(program, row, stand, ends, following, plain):
 
 def _is_outcome_closed(program, row, outcome, stand, ends, plain):
     """Whether all to which an outcome of the call at a row leads stands there, and no fault."""
-    passed = passing(program, row, outcome)
+    passed = passed_on(row, outcome)
     if passed is not None and row[:2] + (passed,) not in ends:
         return False
     return _are_there(returns(program, row, outcome, plain), stand)

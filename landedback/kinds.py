@@ -17,7 +17,7 @@ def is_name(thing):
     """Whether thing, any value, is a string of one to eight letters a to z."""
     if not isinstance(thing, str) or not 1 <= len(thing) <= LONGEST_NAME:
         return False
-    return all(["a" <= sign <= "z" for sign in thing])
+    return thing.isascii() and thing.isalpha() and thing.islower()
 
 
 def is_row(thing):

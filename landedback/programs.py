@@ -1,44 +1,40 @@
 """Programs: functions, which of their names are kept, and which of their places are shut."""
 
-from landedback.errors import BadCells, BadKept, BadShut, BadStatement, Unknown, Wrong
+from landedback.errors import BadKept, BadShut, Unknown, Wrong
+from landedback.functions import Functions, are_functions, fresh_function
 from landedback.kinds import is_address, is_name, is_row
-from landedback.spots import items_of, spots_of
-from landedback.statements import cells_in, fresh_body, is_form, named
-
-MOST_CELLS = 3
-MOST_PARAMETERS = 2
+from landedback.statements import is_form
 
 
 class Program:
-    """A program; it never changes."""
+    """A program; it never changes.
+
+    memory is not a part of what it is: it has what was found out of it before.
+    """
 
     def __init__(self, functions, *, kept=(), shut=()):
-        if not _are_functions(functions):
+        # A Functions is handed in by other Programs alone, and was checked when it was made.
+        known = isinstance(functions, Functions)
+        if not known and not are_functions(functions):
             raise Wrong(0)
-        if not _are_kept(kept):
+        if not are_kept(kept):
             raise Wrong(1)
-        if not _are_shut(shut):
+        if not are_shut(shut):
             raise Wrong(2)
-        _check_statements(functions)
-        cells = _cells_of(functions)
-        if len(cells) > MOST_CELLS:
-            raise BadCells(len(cells))
-        self._functions = {name: _fresh_function(functions[name]) for name in sorted(list(functions))}
-        self._cells = cells
-        self._names = {name: _names_of(self._functions[name]) for name in self._functions}
-        self._spots = {name: spots_of(self._functions[name][1]) for name in self._functions}
-        for function, name in kept:
-            if function not in self._names or name not in self._names[function]:
-                raise BadKept(function, name)
-        for function, address in shut:
-            if function not in self._spots or address not in self._spots[function]:
-                raise BadShut(function, address)
-        self._kept = sorted(set(kept))
-        self._shut = sorted(set(shut))
+        self._functions = functions if known else Functions(functions, is_form)
+        self.check_kept(kept)
+        self._check_shut(shut)
+        self._kept = {item: True for item in sorted(set(kept))}
+        self._shut = {place: True for place in sorted(set(shut))}
+        words = self._functions.words
+        self._loose = {function: self._loose_of(function) for function in words}
+        self._indexes = {cell: at for at, cell in enumerate(self._functions.told)}
+        self.memory = {}
 
     def functions(self):
         """The dict from the names of the functions, ascending, to (parameters, body, result)."""
-        return {name: _fresh_function(self._functions[name]) for name in self._functions}
+        whole = self._functions.whole
+        return {name: fresh_function(whole[name]) for name in whole}
 
     def parameters(self, function):
         """The list of the parameters of a function."""
@@ -51,7 +47,7 @@ class Program:
     def names(self, function):
         """The ascending list of all names of a function."""
         self._told_of(function)
-        return list(self._names[function])
+        return list(self._functions.words[function])
 
     def kept_names(self, function):
         """The ascending list of the names of a function that are kept."""
@@ -59,12 +55,13 @@ class Program:
 
     def loose_names(self, function):
         """The ascending list of the names of a function that are not kept."""
-        return [name for name in self.names(function) if (function, name) not in self._kept]
+        self._told_of(function)
+        return list(self._loose[function])
 
     def calls(self, function):
         """The ascending list of the functions that are called in the body of a function."""
-        items = [item for _, item in items_of(self._told_of(function)[1])]
-        return sorted(set([item[2] for item in items if item[0] == "call"]))
+        self._told_of(function)
+        return self._functions.callees(function)
 
     def kept(self):
         """The ascending list of the tuples (function, name) of what is kept."""
@@ -76,14 +73,14 @@ class Program:
 
     def cells(self):
         """The ascending list of all cells."""
-        return list(self._cells)
+        return list(self._functions.told)
 
     def reached(self):
         """The ascending list of main and the functions that main calls, itself or by others."""
         found = ["main"]
         at = 0
         while at < len(found):
-            called = self.calls(found[at])
+            called = self._functions.callees(found[at])
             for function in called:
                 if function not in found:
                     found.append(function)
@@ -92,103 +89,96 @@ class Program:
 
     def with_kept(self, kept):
         """The Program with another list of what is kept."""
-        return Program(self._functions, kept=kept, shut=self._shut)
+        return Program(self._functions, kept=kept, shut=list(self._shut))
 
     def with_shut(self, shut):
         """The Program with another list of what is shut."""
-        return Program(self._functions, kept=self._kept, shut=shut)
+        return Program(self._functions, kept=list(self._kept), shut=shut)
+
+    def with_more(self, kept, shut):
+        """The Program in which these names are kept, and these places shut, besides what is so already."""
+        return Program(self._functions, kept=list(self._kept) + kept, shut=list(self._shut) + shut)
+
+    def check_kept(self, kept):
+        """Raises BadKept for the first tuple of which there is no such name of such a function."""
+        for function, name in kept:
+            if not self._functions.has_name(function, name):
+                raise BadKept(function, name)
 
     def has_function(self, thing):
         """Whether thing, any value, is the name of a function."""
-        return is_name(thing) and thing in self._functions
+        return is_name(thing) and thing in self._functions.whole
 
     def has_address(self, function, address):
         """Whether an address stands in a function."""
-        return address in self._spots[function]
+        return address in self._functions.spots[function]
 
     def addresses(self, function):
         """The ascending list of the addresses in a function, its end included."""
-        return list(self._spots[function])
+        return list(self._functions.spots[function])
 
     def spot(self, place):
         """The Spot at a place. Its statement is the Program's own, to be read only."""
-        return self._spots[place[0]][place[1]]
+        return self._functions.spots[place[0]][place[1]]
+
+    def spot_at(self, function, address):
+        """The same, for the two parts of a place."""
+        return self._functions.spots[function][address]
+
+    def names_at(self, function):
+        """The ascending tuple of all names of a function that there is."""
+        return self._functions.words[function]
+
+    def loose_at(self, function):
+        """The ascending tuple of the loose names of a function that there is."""
+        return self._loose[function]
+
+    def cell_index(self, cell):
+        """The index of a cell among the ascending ones."""
+        return self._indexes[cell]
 
     def is_shut(self, place):
         """Whether a place is shut."""
         return place in self._shut
 
+    def _check_shut(self, shut):
+        for function, address in shut:
+            if not self._functions.has_place(function, address):
+                raise BadShut(function, address)
+
+    def _loose_of(self, function):
+        return tuple([name for name in self._functions.words[function] if (function, name) not in self._kept])
+
     def _told_of(self, function):
-        if function not in self._functions:
+        if function not in self._functions.whole:
             raise Unknown(function)
-        return self._functions[function]
+        return self._functions.whole[function]
 
     def __eq__(self, other):
-        return (isinstance(other, Program) and self._functions == other._functions
+        return (isinstance(other, Program) and self._functions.whole == other._functions.whole
                 and self._kept == other._kept and self._shut == other._shut)
 
 
-def _are_functions(thing):
-    if not isinstance(thing, dict) or not all([is_name(name) for name in thing]):
-        return False
-    if "main" not in thing or not all([_is_function(thing[name]) for name in thing]):
-        return False
-    return len(thing["main"][0]) == 0
+def are_kept(thing):
+    """Whether thing, any value, has the form of what is kept."""
+    return is_row(thing) and all([is_kept_item(item) for item in thing])
 
 
-def _is_function(thing):
-    if not isinstance(thing, tuple) or len(thing) != 3:
-        return False
-    parameters, body, result = thing
-    return _are_parameters(parameters) and is_row(body) and is_name(result)
+def are_shut(thing):
+    """Whether thing, any value, has the form of what is shut."""
+    return is_row(thing) and all([is_shut_item(item) for item in thing])
 
 
-def _are_parameters(thing):
-    if not is_row(thing) or len(thing) > MOST_PARAMETERS:
-        return False
-    return all([is_name(name) for name in thing]) and len(set(thing)) == len(thing)
+def is_kept_item(thing):
+    """Whether thing, any value, is a tuple of two names."""
+    return _is_pair(thing) and is_name(thing[1])
 
 
-def _are_kept(thing):
-    return is_row(thing) and all([_is_pair(item) and is_name(item[1]) for item in thing])
-
-
-def _are_shut(thing):
-    return is_row(thing) and all([_is_pair(item) and is_address(item[1]) for item in thing])
+def is_shut_item(thing):
+    """Whether thing, any value, is a tuple of a name and an address."""
+    return _is_pair(thing) and is_address(thing[1])
 
 
 def _is_pair(thing):
     """Whether thing is a tuple of a name and one more item."""
     return isinstance(thing, tuple) and len(thing) == 2 and is_name(thing[0])
-
-
-def _check_statements(functions):
-    """Raises BadStatement with the least place of an item that may not stand there."""
-    for function in sorted(list(functions)):
-        for address, item in items_of(functions[function][1]):
-            if not is_form(item) or not _is_call_right(item, functions):
-                raise BadStatement(function, address)
-
-
-def _is_call_right(item, functions):
-    """Whether an item with the form of a statement, if it is a call, calls what can be called so."""
-    if item[0] != "call":
-        return True
-    called = item[2]
-    return called != "main" and called in functions and len(functions[called][0]) == len(item[3])
-
-
-def _cells_of(functions):
-    found = [cell for name in functions for item in functions[name][1] for cell in cells_in(item)]
-    return sorted(set(found))
-
-
-def _names_of(function):
-    parameters, body, result = function
-    found = [name for item in body for name in named(item)]
-    return sorted(set(list(parameters) + found + [result]))
-
-
-def _fresh_function(function):
-    parameters, body, result = function
-    return (list(parameters), fresh_body(body), result)

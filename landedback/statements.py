@@ -102,23 +102,31 @@ def read(statement):
 
 def named(statement):
     """The ascending list of all names in a statement, its bodies included."""
-    return sorted(set(_parts(statement, "name")))
+    return sorted(set(_all_parts(statement, names_within)))
 
 
 def cells_in(statement):
     """The ascending list of all cells in a statement, its bodies included."""
-    return sorted(set(_parts(statement, "cell")))
+    return sorted(set(_all_parts(statement, cells_within)))
+
+
+def _all_parts(statement, find):
+    """The list of what find tells of a statement and of all in its bodies."""
+    inner = [part for body in inner_bodies(statement) for item in body for part in _all_parts(item, find)]
+    return find(statement) + inner
+
+
+def names_within(statement):
+    """The list of the names in a statement, its bodies left aside, as often as they stand there."""
+    if statement[0] == "call":
+        return [statement[1]] + list(statement[3])
+    return _parts(statement, "name")
+
+
+def cells_within(statement):
+    """The list of the cells in a statement, its bodies left aside, as often as they stand there."""
+    return _parts(statement, "cell")
 
 
 def _parts(statement, wanted):
-    """The list of all names, or cells, in a statement, as often as they stand there."""
-    found = []
-    for kind, part in zip(_FORMS[statement[0]], statement[1:]):
-        if kind == wanted:
-            found.append(part)
-        elif kind == "names" and wanted == "name":
-            found.extend(list(part))
-    for body in inner_bodies(statement):
-        for item in body:
-            found.extend(_parts(item, wanted))
-    return found
+    return [part for kind, part in zip(_FORMS[statement[0]], statement[1:]) if kind == wanted]

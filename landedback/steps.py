@@ -1,7 +1,7 @@
 """Steps: where a call goes from a row, by itself, by the calls that it calls, and by their ends."""
 
-from landedback.moves import closed_up, item_at, leaves, moves
-from landedback.returns import returns, told_here
+from landedback.moves import leaves, moves
+from landedback.returns import called_at, passed_on, returns
 
 
 def followers(program, row, *, plain=False):
@@ -29,17 +29,7 @@ def ending(program, row):
 
 def called(program, row):
     """The tuple (function, entry) with which the call begins ahead of which the row stands."""
-    h, names, told, armed = row[3]
-    item = item_at(program, row)
-    passed = tuple([at for at, name in enumerate(item[3]) if name in names])
-    # Now the row's call waits, too; so its own names count among those outside.
-    outside = h in ("live", "gone") and (row[1][2] or len(names) > 0)
-    return (item[2], (h, passed, outside, _told_to(told), armed))
-
-
-def _told_to(told):
-    """What cells tell, in the words of a call that begins."""
-    return tuple([("outer", told.index(telling)) if telling[0] in ("mine", "outer") else telling for telling in told])
+    return called_at(program, row)
 
 
 def behind(program, row, outcome, *, plain=False):
@@ -54,10 +44,4 @@ def lost_behind(program, row, outcome, *, plain=False):
 
 def passing(program, row, outcome):
     """The outcome of the calling call if the landing is in none of its own marks, otherwise None."""
-    if outcome[0] == "end":
-        return None
-    _, i, h, told = outcome
-    telling = row[3][2][i]
-    if telling[0] == "mine":
-        return None
-    return ("jump", telling[1], h, closed_up(told_here(row, told)))
+    return passed_on(row, outcome)

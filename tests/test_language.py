@@ -28,7 +28,7 @@ DUNDERS = set("""__init__ __eq__ __repr__ __str__ __len__ __enter__ __exit__ __c
 
 METHODS = set("""append clear copy count endswith extend find get index insert isalnum isalpha isdigit islower isspace
     isupper items join keys ljust lower lstrip partition pop remove replace reverse rfind rjust rpartition rsplit
-    rstrip setdefault split splitlines startswith strip update upper values zfill bit_length add discard
+    rstrip setdefault split splitlines startswith strip update upper values zfill bit_length add discard isascii
     sort""".split())
 
 BANNED_NAMES = set("""register mro elements open input law version_info with_traceback add_note attrgetter breakpoint
