@@ -16,7 +16,7 @@ class Machine:
         self._program = program
         self._run = []
         # One more than steps: the moment ahead of the first step, and the one behind each.
-        self._moments = [first_moment(program)]
+        self._moments = [first_moment(program, program.cells())]
         # So many steps stand ahead of the innermost trial, and are not taken back in it.
         self._floor = 0
 

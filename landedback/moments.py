@@ -44,10 +44,9 @@ class Moment:
         self.fell = fell
 
 
-def first_moment(program):
-    """The moment at which a run of a program begins."""
-    tellings = {cell: None for cell in program.cells()}
-    return Moment((_new_call(program, "main"),), tellings, None, ())
+def first_moment(program, cells):
+    """The moment at which a run of a program, which may be one with tries, begins."""
+    return Moment((_new_call(program, "main"),), {cell: None for cell in cells}, None, ())
 
 
 def is_last(moment):
@@ -73,7 +72,7 @@ def stepped(program, moment, data):
     """The moment behind a step with data that it may have."""
     if data[0] in LANDINGS:
         mark = aim(program, moment, data)
-        return _fallen(moment) if mark is None else _landed(program, moment, mark, data)
+        return fallen(moment) if mark is None else _landed(program, moment, mark, data)
     statement = statement_of(program, moment)
     if statement is None:
         return _ended(program, moment)
@@ -86,7 +85,8 @@ def _new_call(program, function):
     return Call((function, (0,)), {name: None for name in program.names(function)})
 
 
-def _fallen(moment):
+def fallen(moment):
+    """The moment behind a fall."""
     harm = ("fall",) + moment.stack[-1].stands + (None,)
     return Moment(moment.stack, moment.tellings, moment.alarm, moment.states, harms=(harm,), fell=True)
 
@@ -99,7 +99,7 @@ def _landed(program, moment, mark, data):
     landing = (mark.stands[0], program.spot(mark.stands).doors[1])
     stack = moment.stack[:mark.owner] + (Call(landing, held),)
     states = moment.states + (LIVE,) if data[0] == "within" else moment.states
-    lost = _lost(moment, stack, states, mark.stands)
+    lost = losses(moment, stack, states, mark.stands)
     return Moment(stack, _cut_off(moment.tellings, len(stack)), None, states, harms=lost)
 
 
@@ -113,7 +113,7 @@ def _ended(program, moment):
         spot = program.spot(place)
         held = {**waiting.held, spot.item[1]: ended.held[program.result(ended.stands[0])]}
         stack = stack[:-1] + (Call((place[0], spot.behind), held),)
-    lost = _lost(moment, stack, moment.states, place)
+    lost = losses(moment, stack, moment.states, place)
     return Moment(stack, _cut_off(moment.tellings, len(stack)), moment.alarm, moment.states, harms=lost)
 
 
@@ -131,7 +131,7 @@ def _worked(program, moment, statement, data):
     states = _states_behind(statement, call.held, moment.states)
     address = _address_behind(program.spot(call.stands), data)
     stack = moment.stack[:-1] + (Call((call.stands[0], address), held),)
-    harms = _missed(statement, call, moment.states) + _lost(moment, stack, states, call.stands)
+    harms = _missed(statement, call, moment.states) + losses(moment, stack, states, call.stands)
     return Moment(stack, _tellings_behind(program, moment, statement), _alarm_behind(moment, statement), states,
                   harms=harms)
 
@@ -139,7 +139,7 @@ def _worked(program, moment, statement, data):
 def _address_behind(spot, data):
     if data[0] == "body":
         return spot.doors[data[1]]
-    if spot.item[0] == "mark":
+    if spot.word in ("mark", "try"):
         return spot.doors[0]
     return spot.behind
 
@@ -201,7 +201,7 @@ def _missed(statement, call, states):
     return (("gone",) + call.stands + (thing,),)
 
 
-def _lost(ahead, stack, states, place):
+def losses(ahead, stack, states, place):
     """The faults, with this place, of what is lost by the step from a moment to such calls and things."""
     held = _things_in(ahead.stack)
     left = _things_in(stack)

@@ -9,7 +9,7 @@ def openings(program, moment):
     if is_last(moment):
         return []
     statement = statement_of(program, moment)
-    found = _own_openings(statement)
+    found = own_openings(statement)
     if moment.alarm is not None and not program.is_shut(moment.stack[-1].stands):
         found.append(("break", ()))
         if statement is not None and statement[0] == "get":
@@ -17,8 +17,8 @@ def openings(program, moment):
     return found
 
 
-def _own_openings(statement):
-    """Those of a statement, or of an end, break-ins left aside."""
+def own_openings(statement):
+    """The list of those of a statement, or of an end, break-ins left aside."""
     if statement is None:
         return [("go",)]
     if statement[0] == "either":

@@ -105,6 +105,11 @@ class Program:
             if not self._functions.has_name(function, name):
                 raise BadKept(function, name)
 
+    def has_all(self, kept, shut):
+        """Whether there are all of these names and places, tuples as in what is kept, and shut."""
+        names = [self._functions.has_name(function, name) for function, name in kept]
+        return all(names) and all([self._functions.has_place(function, address) for function, address in shut])
+
     def has_function(self, thing):
         """Whether thing, any value, is the name of a function."""
         return is_name(thing) and thing in self._functions.whole

@@ -1,4 +1,4 @@
-"""Statements: their forms, their bodies, and the names and cells in them."""
+"""Statements, those with tries too: their forms, their bodies, and the names and cells in them."""
 
 from landedback.kinds import is_name, is_row
 
@@ -16,19 +16,39 @@ _FORMS = {
     "loop": ("body",),
     "mark": ("cell", "body", "body"),
     "move": ("cell", "cell"),
+    "raise": (),
     "rest": (),
     "take": ("name", "name"),
+    "try": ("body", "body"),
     "use": ("name",),
 }
+
+# The words of statements of programs with tries, and of those that stand there alone.
+_TRIED = ("call", "clear", "either", "free", "get", "loop", "raise", "take", "try", "use")
+_TRIED_ALONE = ("raise", "try")
 
 
 def is_statement(thing):
     """Whether thing, any value, is a statement, what stands in its bodies included."""
-    return is_form(thing) and all([is_statement(item) for body in inner_bodies(thing) for item in body])
+    return is_whole(thing, is_form)
+
+
+def is_whole(thing, fits):
+    """Whether thing, any value, fits, and so do all items of its bodies; fits is is_form or is_tried_form."""
+    return fits(thing) and all([is_whole(item, fits) for body in inner_bodies(thing) for item in body])
 
 
 def is_form(thing):
     """Whether thing, any value, would be a statement if the right items stood in its bodies."""
+    return _has_form(thing) and thing[0] not in _TRIED_ALONE
+
+
+def is_tried_form(thing):
+    """Whether thing, any value, would be a statement of a program with tries if the right items stood in its bodies."""
+    return _has_form(thing) and thing[0] in _TRIED
+
+
+def _has_form(thing):
     if not isinstance(thing, tuple) or len(thing) == 0 or not isinstance(thing[0], str):
         return False
     kinds = _FORMS.get(thing[0], None)
@@ -55,6 +75,8 @@ def inner_bodies(statement):
         return [statement[1]]
     if statement[0] == "mark":
         return [statement[2], statement[3]]
+    if statement[0] == "try":
+        return [statement[1], statement[2]]
     return []
 
 
@@ -79,6 +101,8 @@ def fresh(statement):
         return (word, fresh_body(statement[1]))
     if word == "mark":
         return (word, statement[1], fresh_body(statement[2]), fresh_body(statement[3]))
+    if word == "try":
+        return (word, fresh_body(statement[1]), fresh_body(statement[2]))
     return tuple(statement)
 
 

@@ -51,6 +51,10 @@ ROWS = '''
 [[('main', 'p')], [('main', 'p')], False, True]
 >>> empty_uses(plan)
 []
+>>> from landedback.least import cheapest, least
+>>> from landedback.repairs import Repair, open_items, repaired
+>>> [open_items(plan).kept(), open_items(plan).shut(), [one.kept() for one in least(plan)]]
+[[('main', 'p')], [], [[('main', 'p')]]]
 '''
 
 
@@ -61,7 +65,7 @@ class Example(unittest.TestCase):
         told = []
         result = doctest.DocTestRunner(verbose=False).run(rows, out=told.append)
         self.assertEqual(result.failed, 0, "".join(told))
-        self.assertEqual(result.attempted, 33)
+        self.assertEqual(result.attempted, 36)
 
 
 if __name__ == "__main__":
