@@ -131,7 +131,10 @@ def _worked(program, moment, statement, data):
     states = _states_behind(statement, call.held, moment.states)
     address = _address_behind(program.spot(call.stands), data)
     stack = moment.stack[:-1] + (Call((call.stands[0], address), held),)
-    harms = _missed(statement, call, moment.states) + losses(moment, stack, states, call.stands)
+    harms = _missed(statement, call, moment.states)
+    # By no other statement a name comes to hold something else.
+    if statement[0] in ("get", "take", "clear"):
+        harms = losses(moment, stack, states, call.stands)
     return Moment(stack, _tellings_behind(program, moment, statement), _alarm_behind(moment, statement), states,
                   harms=harms)
 

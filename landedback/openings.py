@@ -52,5 +52,7 @@ def fits(program, moment, thing):
     """Whether thing, any value, is among the wanted data of a moment."""
     if not is_data(thing) or bare(thing) not in openings(program, moment):
         return False
+    if len(coming_back(thing)) == 0:
+        return True
     names = loose_at(program, moment, thing)
     return all([name in names for name in coming_back(thing)])
