@@ -1,4 +1,4 @@
-"""The document's example, row by row, as far as it has landed. The rows are one session."""
+"""The document's example, row by row. The rows are one session."""
 
 import doctest
 import unittest
@@ -55,6 +55,21 @@ ROWS = '''
 >>> from landedback.repairs import Repair, open_items, repaired
 >>> [open_items(plan).kept(), open_items(plan).shut(), [one.kept() for one in least(plan)]]
 [[('main', 'p')], [], [[('main', 'p')]]]
+>>> from landedback.pushed import is_right, most_open, wrong_raise
+>>> from landedback.tries import Tried
+>>> inner = ("try", [("clear", "p")], [])
+>>> twice = Tried({"main": ([], [("try", [inner, ("either", [[("raise",)], []])], [])], "p")})
+>>> [most_open(twice), is_right(twice, 1), is_right(twice, 2)]
+[('most', 2), False, True]
+>>> wrong_raise(twice, 1)
+[('go',), ('go',), ('go',), ('body', 0), ('go',)]
+>>> from landedback.book import Book
+>>> from landedback.desk import Desk
+>>> desk = Desk(plan)
+>>> [desk.execute("safe"), desk.execute("must"), desk.execute("keep main p"), desk.execute("safe"), desk.execute("back")]
+['lost main 1', 'main p', '-', 'safe', 'keep main p']
+>>> desk.execute("program")
+'main: [clear p; mark m [] [free p; clear p]; get p; either [jump m] []; free p; clear p] -> p\\n'
 '''
 
 
@@ -65,7 +80,7 @@ class Example(unittest.TestCase):
         told = []
         result = doctest.DocTestRunner(verbose=False).run(rows, out=told.append)
         self.assertEqual(result.failed, 0, "".join(told))
-        self.assertEqual(result.attempted, 36)
+        self.assertEqual(result.attempted, 47)
 
 
 if __name__ == "__main__":

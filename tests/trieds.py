@@ -40,7 +40,8 @@ class TriedReference:
 
     def copied(self):
         other = copy.copy(self)
-        other.calls, other.open = copy.deepcopy(self.calls), list(self.open)
+        other.calls = [{**call, "held": dict(call["held"])} for call in self.calls]
+        other.open = list(self.open)
         other.pushed, other.things, other.faults = list(self.pushed), list(self.things), list(self.faults)
         return other
 
@@ -246,3 +247,29 @@ def tried_program(seed):
         left[function] = chance.randint(4, 11)
         functions[function] = (parameters[function], body(function, 2, 5, 3), chance.choice(names))
     return Tried(functions)
+
+
+def nested_program(seed):
+    """A program of main alone, with many tries within one another, the same one for the same seed."""
+    chance = random.Random(seed)
+    left = [12]
+
+    def body(least, most, depth):
+        found = []
+        for _ in range(chance.randint(least, most)):
+            if left[0] > 0:
+                left[0] -= 1
+                found.append(statement(depth))
+        return found
+
+    def statement(depth):
+        word = chance.choice(["clear", "raise", "perhaps", "perhaps", "loop"] + ["try"] * 6 if depth else ["clear", "raise", "perhaps"])
+        if word == "try":
+            return (word, body(0, 3, depth - 1), body(0, 2, depth - 1))
+        if word == "loop":
+            return (word, body(0, 2, depth - 1))
+        if word == "perhaps":
+            return ("either", [[("raise",)], []])
+        return ("clear", "a") if word == "clear" else ("raise",)
+
+    return Tried({"main": ([], body(1, 3, 4), "a")})
