@@ -1,7 +1,8 @@
 """Webs: all to which rules lead, from call to call, numbered, and all steps between.
 
-A node is a row, or an end: a tuple (function, entry, outcome). Rules are an object with the methods
-of Following; a web does not look into rows and outcomes, but for the entry of a row.
+A node is a row, a tuple with the function and the entry ahead of two other items, or an end: a tuple
+(function, entry, outcome). Rules are an object with the methods of Following; a Web does not look into
+entries and outcomes, nor into what else a row has.
 """
 
 from landedback.errors import TooMany
@@ -55,7 +56,7 @@ class Web:
         self.called = {}
         self.joints = {}
         self.harms = []
-        self._open = []
+        self._todo = []
 
     def grow(self, rules, most):
         """Takes up all to which the rules lead, always the same ones; raises TooMany if there are more rows than most.
@@ -64,8 +65,8 @@ class Web:
         """
         if len(self.frames) == 0:
             self._frame_of(rules, rules.opening())
-        while len(self._open) > 0 and len(self.row_numbers) <= most:
-            self._spread(rules, self._open.pop())
+        while len(self._todo) > 0 and len(self.row_numbers) <= most:
+            self._spread(rules, self._todo.pop())
         if len(self.row_numbers) > most:
             raise TooMany(most)
 
@@ -73,8 +74,8 @@ class Web:
         """Whether there is a Harm; no more is taken up than has to be."""
         if len(self.frames) == 0:
             self._frame_of(rules, rules.opening())
-        while len(self._open) > 0 and len(self.harms) == 0:
-            self._spread(rules, self._open.pop())
+        while len(self._todo) > 0 and len(self.harms) == 0:
+            self._spread(rules, self._todo.pop())
         return len(self.harms) > 0
 
     def _frame_of(self, rules, pair):
@@ -107,7 +108,7 @@ class Web:
         self.nodes.append(node)
         self.homes.append(frame)
         self.edges.append([])
-        self._open.append(number)
+        self._todo.append(number)
 
     def _spread(self, rules, number):
         """Takes up all to which a node leads."""
